@@ -1,0 +1,1 @@
+"""What watched shares tell of deeds, in spite of hidden common causes."""

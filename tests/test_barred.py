@@ -6,6 +6,7 @@ import unittest
 from deedshares.barred import barred, open_way
 from deedshares.diagrams import Diagram
 from deedshares.errors import InvalidDeed, InvalidName
+from tests.cases import KindCase
 from tests.words import all_diagrams, first_open_way, is_barred, some_diagram, subsets
 
 ABC = ["a", "b", "c"]
@@ -150,15 +151,7 @@ class ListsTest(unittest.TestCase):
         self.assertEqual(open_way.__code__.co_varnames[:4], ("diagram", "one", "other", "given"))
 
 
-class ErrorsTest(unittest.TestCase):
-
-    def assert_raised(self, error, value, called, *passed):
-        before = repr(passed[1:])
-        with self.assertRaises(error) as caught:
-            called(*passed)
-        self.assertIs(caught.exception.__class__, error)
-        self.assertEqual(caught.exception.value, value)
-        self.assertEqual(repr(passed[1:]), before)
+class ErrorsTest(KindCase):
 
     def test_names_of_barred(self):
         for wrong in ("d", "", "ab", "A", "~"):

@@ -1,12 +1,12 @@
 """Points 2, 3 and 4, and the diagrams of the interface."""
 
-import unittest
 from itertools import permutations
 from unittest import mock
 
 from deedshares import diagrams
 from deedshares.diagrams import Diagram
 from deedshares.errors import InvalidArrow, InvalidName, InvalidNumber, InvalidPair
+from tests.cases import KindCase
 from tests.words import all_diagrams, arrows_without_ring, has_ring, leads, subsets
 
 LETTERS = "abcdefghijklmnopqrstuvwxyz"
@@ -16,17 +16,7 @@ def front():
     return Diagram(["x", "z", "y"], [("x", "z"), ("z", "y")], [("y", "x")])
 
 
-class DiagramCase(unittest.TestCase):
-
-    def assert_raised(self, error, value, called, *passed, **named):
-        with self.assertRaises(error) as caught:
-            called(*passed, **named)
-        self.assertIs(caught.exception.__class__, error)
-        self.assertEqual(caught.exception.value, value)
-        self.assertIs(caught.exception.value.__class__, value.__class__)
-
-
-class ToldTest(DiagramCase):
+class ToldTest(KindCase):
 
     def test_lists_as_they_were_passed(self):
         arrows = [("z", "y"), ("x", "z"), ("x", "y")]
@@ -84,7 +74,7 @@ class ToldTest(DiagramCase):
         self.assertIs(vars(diagrams)["Diagram"], Diagram)
 
 
-class EqualityTest(DiagramCase):
+class EqualityTest(KindCase):
 
     def test_equal_if_the_lists_are(self):
         self.assertTrue(front() == front())
@@ -111,7 +101,7 @@ class EqualityTest(DiagramCase):
         self.assertIs(diagram == 3, False)
 
 
-class NamesTest(DiagramCase):
+class NamesTest(KindCase):
 
     def test_each_letter(self):
         for letter in LETTERS:
@@ -137,7 +127,7 @@ class NamesTest(DiagramCase):
         self.assert_raised(InvalidName, "a", Diagram, list(LETTERS) + ["a", ""], [], [])
 
 
-class ArrowsTest(DiagramCase):
+class ArrowsTest(KindCase):
 
     def test_ends_not_of_the_names(self):
         for arrow in (("a", "d"), ("d", "a"), ("d", "e"), ("a", ""), ("", "a"), ("a", "ab"), ("A", "b"), ("abc", "a")):
@@ -168,7 +158,7 @@ class ArrowsTest(DiagramCase):
                 self.assertEqual(Diagram(names, arrows, []).arrows, arrows)
 
 
-class PairsTest(DiagramCase):
+class PairsTest(KindCase):
 
     def test_things_not_of_the_names(self):
         for pair in (("a", "d"), ("d", "a"), ("d", "e"), ("a", ""), ("", "a"), ("a", "ab"), ("A", "b"), ("abc", "a")):
@@ -192,7 +182,7 @@ class PairsTest(DiagramCase):
         self.assertEqual(Diagram(list("abcdef"), [], pairs).pairs, pairs)
 
 
-class SeveralFaultsTest(DiagramCase):
+class SeveralFaultsTest(KindCase):
 
     def test_in_the_order_listed(self):
         arrows, pairs = [("a", "a")], [("b", "b")]
@@ -218,7 +208,7 @@ class SeveralFaultsTest(DiagramCase):
         self.assert_raised(InvalidPair, ("a", "a"), Diagram, pairs=[("a", "a")], arrows=[], names=["a"])
 
 
-class LeadingTest(DiagramCase):
+class LeadingTest(KindCase):
 
     def test_in_the_sequence_of_the_diagram(self):
         diagram = Diagram(["c", "e", "a", "d", "b"], [("a", "b"), ("e", "b"), ("d", "a"), ("c", "d")], [("b", "c")])
@@ -249,7 +239,7 @@ class LeadingTest(DiagramCase):
         self.assertEqual(diagram, front())
 
 
-class SmallDiagramsTest(DiagramCase):
+class SmallDiagramsTest(KindCase):
 
     def test_all_can_be_made(self):
         self.assertEqual(len(all_diagrams(["a", "b", "c"])), 25 * 8)

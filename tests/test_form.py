@@ -21,7 +21,17 @@ INTERFACE = {
                "TooMany": [], "Unreadable": []},
     "diagrams": {"Diagram": ["__init__", "__eq__", "names", "arrows", "pairs", "sources", "leading_to"]},
     "barred": {"barred": ["diagram", "ones", "others", "given"], "open_way": ["diagram", "one", "other", "given"]},
+    "told": {"groups": ["diagram"], "steps": ["diagram", "acted", "asked"], "is_told": ["diagram", "acted", "asked"],
+             "stuck": ["diagram", "acted", "asked"], "told_pairs": ["diagram"]},
+    "worlds": {"World": ["__init__", "__eq__", "diagram", "coins", "tables"], "watched": ["world"],
+               "done": ["world", "deeds", "asked"], "two_worlds": ["diagram", "acted", "asked"]},
+    "effects": {"share_of": ["diagram", "weights", "event"], "shares_after": ["diagram", "weights", "deeds", "asked"],
+                "shares_given": ["diagram", "weights", "deeds", "asked", "given"]},
+    "cures": {"cures": ["diagram", "acted", "asked"], "is_cure": ["diagram", "acted", "asked", "indices"]},
 }
+UNUSED = set("""mro elements open input law version_info with_traceback add_note register type typing enum Enum Flag Generic
+    Protocol ABC breakpoint builtins compile delattr dir eval exec exit gc globals help importlib locals os sys vars
+    __name__ __class__""".split())
 
 
 def files():
@@ -30,6 +40,12 @@ def files():
 
 def tree_of(path):
     return ast.parse(path.read_text(encoding="utf-8"))
+
+
+def imported_by(path):
+    """The stems of the files of the package from which one imports."""
+    return {node.module.split(".")[-1] for node in ast.walk(tree_of(path))
+            if isinstance(node, ast.ImportFrom) and node.module.startswith(PACKAGE.name)}
 
 
 def nodes(kind):
@@ -73,6 +89,39 @@ class UsesTest(unittest.TestCase):
             if hasattr(builtins, node.id):
                 self.assertIn(node.id, BUILTINS, name)
                 self.assertIsInstance(node.ctx, ast.Load, (name, node.id))
+
+    def test_imports_are_without_ring(self):
+        left = {path.stem: imported_by(path) for path in files()}
+        while any(not imports & set(left) for imports in left.values()):
+            left = {stem: imports for stem, imports in left.items() if imports & set(left)}
+        self.assertEqual(left, {})
+
+    def test_each_name_means_one_thing_in_its_file(self):
+        for path in files():
+            tree = tree_of(path)
+            outer = [alias.name for node in tree.body if isinstance(node, ast.ImportFrom) for alias in node.names]
+            outer += [node.name for node in tree.body if isinstance(node, (ast.FunctionDef, ast.ClassDef))]
+            self.assertEqual(len(set(outer)), len(outer), path.name)
+            for node in ast.walk(tree):
+                if isinstance(node, ast.arg):
+                    self.assertNotIn(node.arg, outer + dir(builtins), path.name)
+                if isinstance(node, ast.Name) and isinstance(node.ctx, ast.Store):
+                    self.assertNotIn(node.id, outer, path.name)
+
+    def test_plain_names(self):
+        for name, node in nodes((ast.Name, ast.Attribute, ast.arg, ast.FunctionDef, ast.ClassDef, ast.keyword)):
+            for word in (getattr(node, kind, None) for kind in ("id", "attr", "arg", "name")):
+                if word is not None:
+                    self.assertRegex(word, r"\A(_|_?[A-Za-z][A-Za-z0-9_]*|__init__|__eq__|__len__)\Z", name)
+                    self.assertNotIn(word, UNUSED, name)
+
+    def test_lists_where_sums_and_their_like_could_take_a_generator(self):
+        self.assertEqual(nodes((ast.GeneratorExp, ast.Yield, ast.YieldFrom)), [])
+
+    def test_sorted_and_powers(self):
+        self.assertEqual(nodes(ast.Pow), [])
+        for name, node in nodes(ast.Call):
+            self.assertNotEqual(getattr(node.func, "attr", ""), "sort", name)
 
     def test_numbers_are_whole(self):
         self.assertEqual(nodes(ast.Div), [])

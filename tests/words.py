@@ -1,4 +1,4 @@
-"""Diagrams in great number, and a search through all ways by the very words of the document."""
+"""Diagrams in great number; ways, groups and steps by the very words of the document, searched for without haste."""
 
 from itertools import combinations, permutations, product
 
@@ -58,6 +58,70 @@ def is_barred(diagram, ones, others, given):
                    for one in ones for other in others for way in ways_between(diagram, one, other))
 
 
+def groups_among(diagram, things):
+    """The groups of some things: whatever a hidden pair among them joins becomes one, until nothing is left to join."""
+    found = [[thing] for thing in things]
+    for pair in diagram.pairs:
+        if set(pair) <= set(things):
+            apart = [group for group in found if not set(pair) & set(group)]
+            joined = [thing for thing in things if not any(thing in group for group in apart)]
+            found = apart + [joined]
+    return sorted(found, key=lambda group: things.index(group[0]))
+
+
+def leads_among(diagram, thing, others, things):
+    """Whether a thing leads to one of others by arrows within some things."""
+    if thing in others:
+        return True
+    return any(start == thing and end in things and leads_among(diagram, end, others, things)
+               for start, end in diagram.arrows)
+
+
+def things_that_count(diagram, acted, asked):
+    """D of point 6."""
+    left = [thing for thing in diagram.names if thing not in acted]
+    return [thing for thing in left if leads_among(diagram, thing, asked, left)]
+
+
+def steps_by_words(diagram, acted, asked):
+    return [steps_of_group(diagram, group)
+            for group in groups_among(diagram, things_that_count(diagram, acted, asked))]
+
+
+def steps_of_group(diagram, group):
+    around = group_with(diagram, diagram.names, group)
+    told = [around]
+    while around != group:
+        leading = [thing for thing in around if leads_among(diagram, thing, group, around)]
+        if leading == around:
+            break
+        around = group_with(diagram, leading, group)
+        told += [leading] if around == leading else [leading, around]
+    return told
+
+
+def stuck_by_words(diagram, acted, asked):
+    for group in groups_among(diagram, things_that_count(diagram, acted, asked)):
+        last = steps_of_group(diagram, group)[-1]
+        if last != group:
+            return group, last
+    return None
+
+
+def group_with(diagram, things, group):
+    return next(found for found in groups_among(diagram, things) if set(group) <= set(found))
+
+
+def widest_hold(diagram, group):
+    """The greatest set that holds a group, is one group itself, and all of which leads to the group within it."""
+    found = group
+    for some in subsets([thing for thing in diagram.names if thing not in group]):
+        held = [thing for thing in diagram.names if thing in group + some]
+        if len(groups_among(diagram, held)) == 1 and all(leads_among(diagram, one, group, held) for one in held):
+            found = max(found, held, key=len)
+    return found
+
+
 def arrows_without_ring(names):
     """All sets of arrows without a ring, as lists."""
     return [arrows for arrows in subsets(list(permutations(names, 2))) if not has_ring(arrows)]
@@ -78,6 +142,32 @@ def all_diagrams(names):
     """Every diagram of some names, for each set of arrows and each set of hidden pairs one."""
     hidden = subsets(list(combinations(names, 2)))
     return [Diagram(names, arrows, pairs) for arrows in arrows_without_ring(names) for pairs in hidden]
+
+
+def some_parts(chance, diagram, *most):
+    """Lists of unlike things of a diagram, none in two of them, each of at most so many things."""
+    left = chance.sample(diagram.names, len(diagram.names))
+    parts = []
+    for many in most:
+        cut = chance.randint(0, min(many, len(left)))
+        parts.append(left[:cut])
+        left = left[cut:]
+    return parts
+
+
+def with_values(chance, things):
+    return [(thing, chance.randint(0, 1)) for thing in things]
+
+
+def diagrams_within_bounds(chance, many, most=6):
+    """So many drawn diagrams of at most so many things, none with more than six hidden pairs."""
+    found = []
+    while len(found) < many:
+        names = chance.sample("abcdefghijklmnopqrstuvwxyz", chance.randint(1, most))
+        diagram = some_diagram(chance, names, chance.choice([0.3, 0.5, 0.7]))
+        if len(diagram.pairs) <= 6:
+            found.append(diagram)
+    return found
 
 
 def some_diagram(chance, names, share):

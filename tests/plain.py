@@ -55,6 +55,27 @@ def plain_done(world, deeds, asked):
     return [as_told(share) for share in sums.values()]
 
 
+def plain_share(names, weights, event):
+    """The watched share of an event: a dict of names and values."""
+    within = [weight for state, weight in zip(states(len(names)), weights)
+              if event.items() <= dict(zip(names, state)).items()]
+    return Fraction(sum(within), sum(weights))
+
+
+def plain_adjusted(diagram, weights, deeds, asked, through):
+    names = diagram.names
+    shares = []
+    for state in states(len(asked)):
+        share = Fraction(0)
+        for values in states(len(through)):
+            held = dict(zip(through, values))
+            among = {**held, **dict(deeds)}
+            told = plain_share(names, weights, {**among, **dict(zip(asked, state))})
+            share += plain_share(names, weights, held) * told / plain_share(names, weights, among)
+        shares.append(as_told(share))
+    return shares
+
+
 def as_told(share):
     return share.numerator, share.denominator
 

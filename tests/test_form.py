@@ -28,6 +28,13 @@ INTERFACE = {
     "effects": {"share_of": ["diagram", "weights", "event"], "shares_after": ["diagram", "weights", "deeds", "asked"],
                 "shares_given": ["diagram", "weights", "deeds", "asked", "given"]},
     "cures": {"cures": ["diagram", "acted", "asked"], "is_cure": ["diagram", "acted", "asked", "indices"]},
+    "adjusting": {"adjusts": ["diagram", "acted", "asked", "through"],
+                  "least_adjusting": ["diagram", "acted", "asked"],
+                  "adjusted": ["diagram", "weights", "deeds", "asked", "through"]},
+    "sheets": {"Sheet": ["__init__", "__len__", "__eq__", "diagram", "draw", "hide", "rub", "undo", "tells", "story"],
+               "SmallSheet": ["__init__", "draw", "hide"]},
+    "texts": {"show_diagram": ["diagram"]},
+    "readings": {"read_diagram": ["text"]},
 }
 UNUSED = set("""mro elements open input law version_info with_traceback add_note register type typing enum Enum Flag Generic
     Protocol ABC breakpoint builtins compile delattr dir eval exec exit gc globals help importlib locals os sys vars

@@ -122,6 +122,40 @@ def widest_hold(diagram, group):
     return found
 
 
+def proper_ways(diagram, acted, asked):
+    """All ways, joined or not, that begin at a set thing, meet no other set one, and end at an asked one."""
+    return [way for one in acted for other in asked for way in ways_between(diagram, one, other)
+            if not set(way[1:]) & set(acted)]
+
+
+def roads(diagram, acted, asked):
+    return [way for way in proper_ways(diagram, acted, asked)
+            if all(two in diagram.arrows for two in zip(way, way[1:]))]
+
+
+def is_open_aside(diagram, way, given):
+    """Whether a way is open by a choice of joins that are not all arrows from each thing to the next one."""
+    steps = [joins_between(diagram, one, other) for one, other in zip(way, way[1:])]
+    onward = [{thing} for thing in way[1:]]
+    return any(is_open_by(diagram, way, joins, given) for joins in product(*steps) if list(joins) != onward)
+
+
+def adjusts_by_words(diagram, acted, asked, through):
+    if set(through) & set(acted + asked):
+        return False
+    left = [thing for thing in diagram.names if thing not in acted]
+    if any(leads_among(diagram, thing, through, left) for road in roads(diagram, acted, asked) for thing in road[1:]):
+        return False
+    return not any(is_open_aside(diagram, way, through) for way in proper_ways(diagram, acted, asked))
+
+
+def least_adjusting_by_words(diagram, acted, asked):
+    """All sets that may be adjusted for, those that hold another one left out."""
+    found = [some for some in subsets(diagram.names) if adjusts_by_words(diagram, acted, asked, some)]
+    least = [some for some in found if not any(set(other) < set(some) for other in found)]
+    return sorted(least, key=lambda some: (len(some), list(map(diagram.names.index, some))))
+
+
 def arrows_without_ring(names):
     """All sets of arrows without a ring, as lists."""
     return [arrows for arrows in subsets(list(permutations(names, 2))) if not has_ring(arrows)]
@@ -153,6 +187,13 @@ def some_parts(chance, diagram, *most):
         parts.append(left[:cut])
         left = left[cut:]
     return parts
+
+
+def some_ends(chance, diagram):
+    """Unlike things that are set and that are asked, at most three of each; one of each where there are enough."""
+    left = chance.sample(diagram.names, len(diagram.names))
+    cut = min(chance.choice([1, 1, 2, 3]), len(left))
+    return left[:cut], left[cut:cut + chance.choice([1, 1, 2, 3])]
 
 
 def with_values(chance, things):
